@@ -28,7 +28,7 @@ func Put(text string) ([]byte, error) {
 
 // Get is a body's text.
 func Get(body []byte) (string, error) {
-	if len(body) == 0 || !isLast(body[len(body)-1]) {
+	if len(body) == 0 {
 		return "", api.ErrShort
 	}
 	list, err := gather(ofBody(body))
@@ -40,22 +40,33 @@ func Get(body []byte) (string, error) {
 	return Text(append([]int{first, second}, list[1:]...))
 }
 
-// ofBody gives the numbers of a body whose last byte is a number's last one, in order.
+// ofBody gives the numbers of a body, in order; the last one may lack its end.
 func ofBody(body []byte) iter.Seq2[int, error] {
 	return func(yield func(int, error) bool) {
 		most := maxFirst
 		for rest := body; len(rest) > 0; {
-			end := slices.IndexFunc(rest, isLast) + 1
-			if !yield(numberOfBytes(rest[:end], most)) {
+			size := firstSize(rest)
+			if !yield(numberOfBytes(rest[:size], most)) {
 				return
 			}
-			rest, most = rest[end:], maxArc
+			rest, most = rest[size:], maxArc
 		}
 	}
 }
 
+// firstSize is how many bytes the first number of some has: all of them, if none is its last one.
+func firstSize(b []byte) int {
+	if at := slices.IndexFunc(b, isLast); at >= 0 {
+		return at + 1
+	}
+	return len(b)
+}
+
 // numberOfBytes is what a number's bytes say.
 func numberOfBytes(b []byte, most int) (int, error) {
+	if !isLast(b[len(b)-1]) {
+		return 0, api.ErrShort
+	}
 	if b[0] == more {
 		return 0, api.ErrForm
 	}

@@ -122,12 +122,12 @@ func meant(b []byte) *big.Int {
 	return n
 }
 
-// split is the bytes of each number of a body.
+// split is the bytes of each number of a body; those behind the last one that ends are a number, too.
 func split(body []byte) [][]byte {
 	var list [][]byte
 	from := 0
 	for i, c := range body {
-		if c < 128 {
+		if c < 128 || i == len(body)-1 {
 			list = append(list, body[from:i+1])
 			from = i + 1
 		}
@@ -137,11 +137,14 @@ func split(body []byte) [][]byte {
 
 // wantGet is Get as the chapter tells it, sentence by sentence.
 func wantGet(body []byte) (string, error) {
-	if len(body) == 0 || body[len(body)-1] >= 128 {
+	if len(body) == 0 {
 		return "", api.ErrShort
 	}
 	var arcs []int
 	for i, b := range split(body) {
+		if b[len(b)-1] >= 128 {
+			return "", api.ErrShort
+		}
 		if len(b) > 1 && b[0]%128 == 0 { // without it they say the same
 			return "", api.ErrForm
 		}
