@@ -13,9 +13,10 @@ type Ring struct {
 	book map[entry]bool
 }
 
-// entry is what was signed. The message stands in it as it is: what counts must not hang on digests that are the same by chance.
+// entry is what was signed, and by which key. Key and message stand in it as they are: what counts must not hang on numbers and digests that are the same by chance.
 type entry struct {
-	id, domain, message string
+	key             [api.Digest]byte
+	domain, message string
 }
 
 // New is a ring without keys.
@@ -26,12 +27,15 @@ func (g *Ring) Add(key []byte) (string, error) {
 	if len(key) != api.Digest {
 		return "", api.ErrForm
 	}
+	id := mac.ID(key)
+	if g.Has(id) { // also where it is another key, of the same number by chance: what that one has signed goes on to count
+		return id, nil
+	}
 	if g.keys == nil {
 		g.keys = map[string][api.Digest]byte{}
 	}
 	var own [api.Digest]byte
 	copy(own[:], key)
-	id := mac.ID(key)
 	g.keys[id] = own
 	return id, nil
 }
@@ -44,25 +48,25 @@ func (g *Ring) Has(id string) bool {
 
 // Sign signs a message.
 func (g *Ring) Sign(id, domain string, message []byte) ([]byte, error) {
-	signature, err := g.reckon(id, domain, message)
+	e, signature, err := g.reckon(id, domain, message)
 	if err != nil {
 		return nil, err
 	}
 	if g.book == nil {
 		g.book = map[entry]bool{}
 	}
-	g.book[entry{id, domain, string(message)}] = true
+	g.book[e] = true
 	return signature, nil
 }
 
 // Verify asks whether a signature counts.
 func (g *Ring) Verify(id, domain string, message, signature []byte) error {
-	right, err := g.reckon(id, domain, message)
+	e, right, err := g.reckon(id, domain, message)
 	if err != nil {
 		return err
 	}
 	// whoever has the key can reckon what is right: only the book tells that it was signed here
-	if !mac.Same(right, signature) || !g.book[entry{id, domain, string(message)}] {
+	if !mac.Same(right, signature) || !g.book[e] {
 		return api.ErrSign
 	}
 	return nil
@@ -76,18 +80,18 @@ func (g *Ring) Copy() *Ring {
 	return &Ring{keys: maps.Clone(g.keys), book: maps.Clone(g.book)}
 }
 
-// reckon is the signature of a message by a key that it has, whether or not it was signed.
-func (g *Ring) reckon(id, domain string, message []byte) ([]byte, error) {
+// reckon is what the book would have of a message, and its signature, by a key that it has, whether or not it was signed.
+func (g *Ring) reckon(id, domain string, message []byte) (entry, []byte, error) {
 	if g == nil { // Seal and Open are asked of no ring, too: it has no key
-		return nil, api.ErrKey
+		return entry{}, nil, api.ErrKey
 	}
 	key, has := g.keys[id]
 	if !has {
-		return nil, api.ErrKey
+		return entry{}, nil, api.ErrKey
 	}
 	signature, err := mac.Tagged(key[:], domain, message)
 	if err != nil {
-		return nil, err
+		return entry{}, nil, err
 	}
-	return signature[:], nil
+	return entry{key, domain, string(message)}, signature[:], nil
 }
